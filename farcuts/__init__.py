@@ -1,0 +1,1 @@
+"""Farcuts: distances as sums of cuts."""
