@@ -27,6 +27,13 @@ BARRED = (
     ast.Div, ast.SetComp, ast.DictComp, ast.GeneratorExp, ast.NamedExpr, ast.Starred, ast.Yield,
     ast.YieldFrom, ast.Await, ast.MatMult,
 )
+METHODS = set(
+    """append clear copy count endswith extend find get index insert isalnum isalpha isdigit islower isspace
+    isupper items join keys ljust lower lstrip partition pop remove replace reverse rfind rjust rpartition
+    rsplit rstrip setdefault split splitlines startswith strip update upper values zfill bit_length""".split()
+)
+WALKED = ("zip", "enumerate", "reversed", "range")
+WALKERS = ("list", "tuple", "dict", "sorted", "sum", "any", "all", "enumerate", "zip", "min", "max")
 
 
 def stored_names(tree):
@@ -93,6 +100,53 @@ class Language(unittest.TestCase):
                     defined = [one.name for one in modules[module].body if hasattr(one, "name")]
                     for one in node.names:
                         self.assertIn(one.name, defined)
+
+    def test_nothing_draws_from_itself(self):
+        drawn = {}
+        for path, text, tree in self.each():
+            rows = [node for node in tree.body if isinstance(node, ast.ImportFrom)]
+            drawn[path.stem] = [node.module.partition(".")[2] for node in rows]
+        while drawn:
+            free = [name for name in drawn if not any(other in drawn for other in drawn[name])]
+            self.assertNotEqual(free, [], sorted(drawn))
+            for name in free:
+                drawn.pop(name)
+
+    def test_is_and_powers(self):
+        for path, text, tree in self.each():
+            for node in ast.walk(tree):
+                if isinstance(node, ast.Compare):
+                    for sign, thing in zip(node.ops, node.comparators):
+                        if isinstance(sign, (ast.Is, ast.IsNot)):
+                            self.assertIsInstance(thing, ast.Constant, node.lineno)
+                            self.assertIn(thing.value, (None, True, False))
+                if isinstance(node, ast.BinOp) and isinstance(node.op, ast.Pow):
+                    self.assertIsInstance(node.right, ast.Constant, node.lineno)
+
+    def test_methods(self):
+        for path, text, tree in self.each():
+            own = [node.name for node in ast.walk(tree) if isinstance(node, ast.FunctionDef)]
+            for node in ast.walk(tree):
+                if isinstance(node, ast.Call) and isinstance(node.func, ast.Attribute):
+                    self.assertIn(node.func.attr, sorted(METHODS) + own, node.lineno)
+
+    def test_walked_at_once_and_sets(self):
+        for path, text, tree in self.each():
+            free = []
+            for node in ast.walk(tree):
+                if isinstance(node, (ast.For, ast.comprehension)):
+                    free.append(node.iter)
+                if isinstance(node, ast.Call) and isinstance(node.func, ast.Name) and node.args:
+                    if node.func.id in WALKERS:
+                        free += node.args
+                    if node.func.id in ("sorted", "len") and not node.keywords:
+                        free.append(node.args[0])
+                if isinstance(node, ast.Compare):
+                    free += node.comparators + [node.left]
+            for node in ast.walk(tree):
+                if isinstance(node, ast.Call) and isinstance(node.func, ast.Name):
+                    if node.func.id in WALKED + ("set", "frozenset"):
+                        self.assertIn(node, free, node.lineno)
 
     def test_names(self):
         for path, text, tree in self.each():

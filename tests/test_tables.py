@@ -5,110 +5,15 @@ import itertools
 import unittest
 from fractions import Fraction
 
+from helping import FIFTY, AskCase, built, changed, huge, line, many_tables, mixed, nought, pair, wild
+
 from farcuts.errors import NoNumber, NoPoint, NoTable
 from farcuts.tables import added, first_short, hung_together, is_table, part_of, times_table
 
-FIFTY = 10 ** 50 - 1
 FAR_NUMBERS = (10 ** 29, -(10 ** 29), 123456789012345678901234567890)
 
 
-def pair(exact):
-    return (exact.numerator, exact.denominator)
-
-
-def built(n, distance):
-    rows = []
-    for i in range(n):
-        rows.append([pair(Fraction(distance(min(i, j), max(i, j)))) if i != j else (0, 1) for j in range(n)])
-    return rows
-
-
-def line(n):
-    return built(n, lambda i, j: j - i)
-
-
-def mixed(n, seed=1):
-    """Distances between 1 and 2, so that no way round is shorter."""
-    return built(n, lambda i, j: 1 + Fraction((7 * i + 11 * j * j + seed) % 30, 30 + i + seed))
-
-
-def wild(n, seed=1):
-    """Distances of all sizes, nought among them, so mostly no long table."""
-    return built(n, lambda i, j: Fraction((5 * i * i + 3 * j * seed + i * j) % 17, 1 + (i + j + seed) % 4))
-
-
-def huge(n):
-    return built(n, lambda i, j: FIFTY - i + Fraction(j, FIFTY - 2))
-
-
-def nought(n):
-    return built(n, lambda i, j: 0)
-
-
-def many_tables():
-    found = []
-    for n in range(1, 11):
-        found += [line(n), mixed(n), mixed(n, 4), wild(n), wild(n, 3), huge(n), nought(n)]
-    return found
-
-
-def changed(table, i, j, thing, both=True):
-    rows = copy.deepcopy(table)
-    rows[i][j] = thing
-    if both:
-        rows[j][i] = thing
-    return rows
-
-
-class TableCase(unittest.TestCase):
-    def check_new(self, told, *handed):
-        """Each list told is a plain new one: none is another one, none was handed in."""
-        lists = [told] + told
-        for one in lists:
-            self.assertIs(type(one), list)
-        for table in handed:
-            lists += [table] + [row for row in table if isinstance(row, list)]
-        self.assertEqual(len({id(one) for one in lists}), len(lists))
-        for row in told:
-            for cell in row:
-                self.assertIs(type(cell), tuple)
-                self.assertEqual([type(part) for part in cell], [int, int])
-
-    def check_free_of_what_was_told(self, ask, *handed):
-        """Neither a change of what was told nor of what was handed in changes anything told."""
-        kept = copy.deepcopy(handed)
-        first = ask(*handed)
-        due = copy.deepcopy(first)
-        second = ask(*handed)
-        self.assertEqual(second, due)
-        self.assertEqual(handed, kept)
-        self.assertEqual(len({id(one) for one in [first, second] + first + second}), 2 * len(due) + 2)
-        for row in first:
-            row[0] = "spoilt"
-            row.append("spoilt")
-        first.append("spoilt")
-        self.assertEqual(handed, kept)
-        self.assertEqual(second, due)
-        self.assertEqual(ask(*handed), due)
-        for thing in handed:
-            if isinstance(thing, list):
-                for row in thing:
-                    if isinstance(row, list):
-                        row[0] = "spoilt"
-                        row.append("spoilt")
-                thing.append("spoilt")
-        self.assertEqual(second, due)
-        self.assertEqual(ask(*kept), due)
-
-    def check_refused(self, error, ask, *handed):
-        kept = copy.deepcopy(handed)
-        with self.assertRaises(error) as caught:
-            ask(*handed)
-        self.assertIs(type(caught.exception), error)
-        self.assertEqual(handed, kept)
-
-
-class TellingTables(TableCase):
+class TellingTables(AskCase):
     def check_told(self, thing, due):
         kept = copy.deepcopy(thing)
         self.assertIs(is_table(thing), due, thing)
@@ -205,7 +110,7 @@ class TellingTables(TableCase):
         self.assertIs(is_table(knot), False)
 
 
-class ShortWays(TableCase):
+class ShortWays(AskCase):
     def due(self, table):
         for i, j, k in itertools.permutations(range(len(table)), 3):
             if Fraction(*table[i][k]) > Fraction(*table[i][j]) + Fraction(*table[j][k]):
@@ -259,7 +164,7 @@ class ShortWays(TableCase):
         self.assertIsNone(first_short(built(3, lambda i, j: third if j - i == 1 else 2 * third)))
 
 
-class Parts(TableCase):
+class Parts(AskCase):
     def test_points_in_any_order(self):
         for n in (1, 2, 3, 4):
             for table in (line(n), mixed(n), wild(n), huge(n)):
@@ -299,7 +204,7 @@ class Parts(TableCase):
         self.check_free_of_what_was_told(part_of, line(1), [0])
 
 
-class Sums(TableCase):
+class Sums(AskCase):
     def test_place_by_place(self):
         for n in range(1, 11):
             for table in (line(n), mixed(n), huge(n), nought(n)):
@@ -336,7 +241,7 @@ class Sums(TableCase):
             self.check_free_of_what_was_told(added, mixed(n), wild(n))
 
 
-class Multiples(TableCase):
+class Multiples(AskCase):
     def test_place_by_place(self):
         for n in range(1, 11):
             for table in (line(n), mixed(n), wild(n), huge(n), nought(n)):
@@ -366,7 +271,7 @@ class Multiples(TableCase):
                 self.check_free_of_what_was_told(times_table, q, mixed(n))
 
 
-class Hanging(TableCase):
+class Hanging(AskCase):
     def due(self, table, point, other, other_point):
         places = [(0, a) for a in range(len(table))]
         places += [(1, b) for b in range(len(other)) if b != other_point]

@@ -1,0 +1,17 @@
+"""The pairs of points i below j, in order as tuples, and tables as rows of one number for each pair."""
+
+
+def pairs_of(n):
+    pairs = []
+    for i in range(n):
+        for j in range(i + 1, n):
+            pairs.append((i, j))
+    return pairs
+
+
+def table_of_pairs(n, distances):
+    table = [[(0, 1)] * n for point in range(n)]
+    for pair, distance in zip(pairs_of(n), distances):
+        table[pair[0]][pair[1]] = distance
+        table[pair[1]][pair[0]] = distance
+    return table
