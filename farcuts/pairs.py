@@ -15,3 +15,7 @@ def table_of_pairs(n, distances):
         table[pair[0]][pair[1]] = distance
         table[pair[1]][pair[0]] = distance
     return table
+
+
+def distances_of(table):
+    return [table[i][j] for i, j in pairs_of(len(table))]

@@ -118,6 +118,27 @@ def drawn_tree(chance, n, plain=False):
     return [(cut, (chance.randrange(1, 9), 1) if plain else drawn_weight(chance)) for cut in sorted(chosen)]
 
 
+def at_odds(n, one, other, third):
+    """Whether four unlike points are parted by the three cuts in the three ways there are, by the words of [21]."""
+    def found(first, same, *unlike):
+        """Whether a point lies with the first one in one cut, and parted from it by both others."""
+        return any(
+            not parts(same, first, point) and all(parts(cut, first, point) for cut in unlike) for point in range(n)
+        )
+    return any(
+        found(w, one, other, third) and found(w, other, one, third) and found(w, third, one, other) for w in range(n)
+    )
+
+
+def drawn_not_at_odds(chance, n, plain=False):
+    """Weighted cuts of which no three are at odds, drawn one behind the other."""
+    chosen = []
+    for cut in chance.sample(sides(n), len(sides(n))):
+        if not any(at_odds(n, cut, *two) for two in itertools.combinations(chosen, 2)) and chance.randrange(4):
+            chosen.append(cut)
+    return [(cut, (chance.randrange(1, 9), 1) if plain else drawn_weight(chance)) for cut in sorted(chosen)]
+
+
 def drawn_ring(chance, n):
     order = [0] + chance.sample(range(1, n), n - 1)
     return order if order[1] < order[-1] else [0] + order[:0:-1]
@@ -131,6 +152,13 @@ def ring_cuts(ring):
 
 def drawn_table(chance, n, most=6):
     return of_pairs(n, [chance.randrange(most + 1) for one in itertools.combinations(range(n), 2)])
+
+
+def bar_products(n, numbers):
+    """For each pair the product of the two points' numbers. Where these, whole ones, add up to 1, each cut's parted
+    products add up to 0 or less: the sum over a side is whole, s say, and they add up to s * (1 - s)."""
+    numbers = list(numbers) + [0] * (n - len(numbers))
+    return [numbers[i] * numbers[j] for i, j in itertools.combinations(range(n), 2)]
 
 
 def drawn_long(chance, n):
@@ -175,6 +203,7 @@ class AskCase(unittest.TestCase):
     def check_free_of_what_was_told(self, ask, *handed):
         """Neither a change of what was told nor of what was handed in changes anything told."""
         kept = copy.deepcopy(handed)
+        handed = copy.deepcopy(handed)
         first = ask(*handed)
         self.check_new(first, *handed)
         due = copy.deepcopy(first)

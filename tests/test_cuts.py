@@ -59,6 +59,10 @@ class OneCut(AskCase):
                 self.check_refused(NoCut, cut_of, n, [number, n - 1])
                 self.check_refused(NoCut, cut_of, n, list(range(n)) + [number])
 
+    def test_truths_are_no_points(self):
+        self.check_refused(NoCut, cut_of, 3, [True])
+        self.check_refused(NoCut, cut_of, 3, [False, 1])
+
     def test_told_lists_are_the_askers_own(self):
         for points in ([1, 3], [3, 1], [0], [0, 4], [1, 2, 3, 4]):
             self.check_free_of_what_was_told(cut_of, 5, points)

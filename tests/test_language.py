@@ -82,6 +82,9 @@ class Language(unittest.TestCase):
                 self.assertNotIsInstance(node, BARRED, where)
                 if isinstance(node, ast.Assign):
                     self.assertEqual(len(node.targets), 1, where)
+                # A text by itself stands at the top of a file alone.
+                if isinstance(node, ast.Expr) and node is not tree.body[0]:
+                    self.assertIsInstance(node.value, ast.Call, where)
                 if isinstance(node, (ast.For, ast.While)):
                     self.assertEqual(node.orelse, [], where)
                 if isinstance(node, ast.ListComp):
@@ -124,8 +127,12 @@ class Language(unittest.TestCase):
                     self.assertIsInstance(node.right, ast.Constant, node.lineno)
 
     def test_methods(self):
+        own = []
         for path, text, tree in self.each():
-            own = [node.name for node in ast.walk(tree) if isinstance(node, ast.FunctionDef)]
+            for node in ast.walk(tree):
+                if isinstance(node, ast.ClassDef):
+                    own += [method.name for method in node.body if isinstance(method, ast.FunctionDef)]
+        for path, text, tree in self.each():
             for node in ast.walk(tree):
                 if isinstance(node, ast.Call) and isinstance(node.func, ast.Attribute):
                     self.assertIn(node.func.attr, sorted(METHODS) + own, node.lineno)

@@ -114,6 +114,10 @@ class RingWeights(AskCase):
             if n < 3:
                 self.check_refused(NoOrder, ring_weight, line(n), list(range(n)), 0, 1)
 
+    def test_truths_are_no_points(self):
+        self.check_refused(NoOrder, ring_told, line(3), [0, True, 2])
+        self.check_refused(NoOrder, ring_told, line(3), [False, 1, 2])
+
     def test_other_gaps_are_refused(self):
         for n in range(3, 11):
             for a, b in ((0, 0), (1, 0), (n - 1, n - 1), (n - 1, 0), (0, n), (-1, 0), (-1, 1), (n, n + 1), (-2, -1)):
@@ -266,6 +270,10 @@ class FirstRings(AskCase):
             self.assertEqual(first_ring(line(n)), list(range(n)))
         # Two points, each one road from each of three others: no sum of cuts, so by no ring.
         self.assertIsNone(first_ring(of_pairs(5, [2, 1, 1, 1, 1, 1, 1, 2, 2, 2])))
+
+    def test_fewer_points_have_none(self):
+        for n in (1, 2):
+            self.assertIsNone(self.asked(first_ring, line(n)))
 
     def test_points_put_otherwise(self):
         chance = chance_of(42)
