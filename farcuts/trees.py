@@ -2,7 +2,7 @@
 
 from farcuts.cuts import check_cut
 from farcuts.fours import three_sums, weight_by, weighted_by
-from farcuts.pairs import pairs_of
+from farcuts.pairs import rising_tuples
 from farcuts.tables import first_short
 from farcuts.wholes import table_bottom, table_over
 
@@ -23,12 +23,9 @@ def is_one_alone_greatest(sums):
 
 
 def first_four(rows):
-    n = len(rows)
-    for i, j in pairs_of(n):
-        for k in range(j + 1, n):
-            for l in range(k + 1, n):
-                if is_one_alone_greatest(three_sums(rows, i, j, k, l)):
-                    return (i, j, k, l)
+    for i, j, k, l in rising_tuples(len(rows), 4):
+        if is_one_alone_greatest(three_sums(rows, i, j, k, l)):
+            return (i, j, k, l)
     return None
 
 

@@ -6,8 +6,9 @@ short as they can be, also where what is wanted is long.
 
 
 # Each row is solved for one column. Ahead stand the fillers, one for each row, and behind them the columns: a filler
-# makes its row add up where the columns do not, and once it is out of the solved ones it never comes back. Of several
-# columns or rows that would do the first one is taken, as else the steps might go round without an end.
+# makes its row add up where the columns do not, and once it is out of the solved ones it never comes back (but in a
+# climb, where it may fill up its row). Of several columns or rows that would do the first one is taken, as else the
+# steps might go round without an end.
 class Scales:
     def __init__(self, columns, wanted):
         self.fillers = len(wanted)
@@ -45,7 +46,8 @@ class Scales:
         return left < right or (left == right and self.solved[place] < self.solved[other])
 
     # The column grows until the tightest row would go below 0, which is then solved for it. There is such a row where
-    # the columns have no number below 0 and each has one above it: else a weight could grow without an end.
+    # some row of the columns has numbers above 0 alone, or each column has one above 0 and none below it: else a weight
+    # could grow without an end.
     def take_in(self, column):
         tightest = None
         for place in range(len(self.rows)):
@@ -119,3 +121,37 @@ class Scales:
                 return False
             self.take_in(lifting)
         return True
+
+    # Told is whether the column is no sum of those that stand for fillers already; then it stands for one of those
+    # left.
+    def put_for_filler(self, number):
+        for place in range(len(self.rows)):
+            if self.solved[place] < self.fillers and self.rows[place][self.fillers + number] != 0:
+                self.pivot(place, self.fillers + number)
+                return True
+        return False
+
+    # What each column, the fillers ahead, would add to the weights times their prices, over the scale. A filler has no
+    # price.
+    def gains(self, prices):
+        added = [0] * self.fillers + [price * self.scale for price in prices]
+        for row, column in zip(self.rows, self.solved):
+            if column >= self.fillers:
+                price = prices[column - self.fillers]
+                added = [gain - price * x for gain, x in zip(added, row)]
+        return added
+
+    def first_gaining(self, prices):
+        for column, gain in enumerate(self.gains(prices)):
+            if gain > 0:
+                return column
+        return None
+
+    # The weights times their prices become the most they can be, where no row adds up to more than what is wanted.
+    # Told is for each row what one more in it would be worth, over the scale: none is below 0.
+    def climb(self, prices):
+        column = self.first_gaining(prices)
+        while column is not None:
+            self.take_in(column)
+            column = self.first_gaining(prices)
+        return [-gain for gain in self.gains(prices)[:self.fillers]]
