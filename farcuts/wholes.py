@@ -1,6 +1,6 @@
 """Fractions over one bottom: so they are added and compared as whole numbers, without a divisor at each step."""
 
-from farcuts.fractions import greatest_divisor
+from farcuts.fractions import fraction, greatest_divisor
 
 
 def shared_bottom(numbers):
@@ -23,3 +23,8 @@ def table_bottom(table):
 
 def table_over(bottom, table):
     return [tops_over(bottom, row) for row in table]
+
+
+def greatest_of(numbers):
+    bottom = shared_bottom(numbers)
+    return fraction(max(tops_over(bottom, numbers), default=0), bottom)
