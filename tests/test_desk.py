@@ -156,6 +156,8 @@ class Answers(DeskCase):
         self.check_said(desk, "rest a", "2")
         desk.say("table a 5 4/7 4/7 2/7 2/7 4/7 2/7 2/7 2/7 2/7 4/7")
         self.check_said(desk, "rest a", "4/7")
+        desk.say("table a 5 1/7 1/7 1/14 1/14 1/7 1/14 1/14 1/14 1/14 1/7")
+        self.check_said(desk, "rest a", "1/7")
 
     def test_near(self):
         self.check_said(kept(line(4)), "near a", "0")

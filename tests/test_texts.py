@@ -125,7 +125,9 @@ class TableTexts(AskCase):
     def test_of_anything(self):
         for thing in NO_TEXTS:
             self.check_refused(NoText, read_table, thing)
-        for text in ("none", "table", "1: 1", "0\x00", "\x00", "~", "\t", "\n", " ", "\n\n\n", "a b\nb a", "{}", "%s", "0 " * 900):
+        for text in (
+            "none", "table", "1: 1", "0\x00", "\x00", "~", "\t", "\n", " ", "\n\n\n", "a b\nb a", "{}", "%s", "0 " * 900,
+        ):
             self.check_refused(NoText, read_table, text)
 
     def test_told_lists_are_the_askers_own(self):

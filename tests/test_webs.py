@@ -383,6 +383,9 @@ class WebsOfWords(WebCase):
                 self.check_refused(NoWeb, web_of_words, words)
         self.check_refused(NoWeb, web_of_words, ["none"])
         self.check_refused(NoWeb, web_of_words, ["0 ", "1 "])
+        # As many signs 0 and 1 as the others have, and one more besides.
+        for words in (["0", "1", "0x"], ["00", "01", "1 1"], ["0x", "0", "1"], ["", "x"]):
+            self.check_refused(NoWeb, web_of_words, words)
 
     def test_words_that_cannot_be_come_to(self):
         for words in (["00", "11"], ["000", "001", "110", "111"], ["0" * 9, "1" * 9], ["00", "01", "11"][::2]):
